@@ -1,0 +1,46 @@
+"""What several tests share: things of many kinds, and how a refusal is looked at."""
+
+from wordlines import errors
+from wordlines.lands import Land
+
+BASES = {"WordError": ValueError, "LandError": LookupError, "JoinError": ArithmeticError}
+
+SMALL = Land((("aa", "bb"), (None, "cc")))
+
+
+class AlikeToAll:
+    """A thing that says it is alike to whatever it is compared with."""
+
+    def __eq__(self, other):
+        return True
+
+    __hash__ = None
+
+
+def nested(depth, thing):
+    for step in range(depth):
+        thing = [thing] if step % 2 else (thing,)
+    return thing
+
+
+# None of these is a WORD, an AGE, a truth, a tuple of changes, a Land's rows, a text of either sort, or a Land.
+KINDS = (
+    -1, 121, 10 ** 60, "", "A", "aB", "a b", "a-b", "a1", " a", "a ", "a\n", "abcdefghi", "?", "-", "1",
+    b"", b"a", b"aa", [], ["a"], ["a", "b", "any"], ("a",), (("a", "b"), ("c",)), {}, {"a": "b"}, {"a"}, frozenset("a"),
+    range(3), object(), AlikeToAll(), len, int, str, lambda thing: True, nested(10, "a"), nested(10, None),
+    ValueError("a"), NotImplemented, ...,
+)
+
+
+def refusals():
+    """All refusals by name, the bases left out."""
+    named = {name: thing for name, thing in vars(errors).items() if isinstance(thing, type)}
+    return {name: named[name] for name in named if name not in BASES}
+
+
+def refused(test, kind, call, *args, **named):
+    """The refusal that a call ends with, which is of just this kind."""
+    with test.assertRaises(kind) as caught:
+        call(*args, **named)
+    test.assertIs(type(caught.exception), kind)
+    return caught.exception

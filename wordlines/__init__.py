@@ -1,0 +1,1 @@
+"""Wordlines: words gathered by villages, with lines between them."""
