@@ -1,11 +1,16 @@
 """What several tests share: things of many kinds, and how a refusal is looked at."""
 
 from wordlines import errors
+from wordlines.gatherings import Gathering
 from wordlines.lands import Land
+from wordlines.maps import WordMap
 
 BASES = {"WordError": ValueError, "LandError": LookupError, "JoinError": ArithmeticError}
 
 SMALL = Land((("aa", "bb"), (None, "cc")))
+
+# One of each class of the program.
+OWN = (SMALL, Gathering(SMALL), WordMap(Gathering(SMALL), "cow"))
 
 
 class AlikeToAll:
@@ -23,7 +28,7 @@ def nested(depth, thing):
     return thing
 
 
-# None of these is a WORD, an AGE, a truth, a tuple of changes, a Land's rows, a text of either sort, or a Land.
+# None of these is a WORD, an AGE, a truth, a tuple of changes, a Land's rows, a text of either sort, or of an own class.
 KINDS = (
     -1, 121, 10 ** 60, "", "A", "aB", "a b", "a-b", "a1", " a", "a ", "a\n", "abcdefghi", "?", "-", "1",
     b"", b"a", b"aa", [], ["a"], ["a", "b", "any"], ("a",), (("a", "b"), ("c",)), {}, {"a": "b"}, {"a"}, frozenset("a"),

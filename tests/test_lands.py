@@ -1,7 +1,7 @@
 import random
 import unittest
 
-from tests.helper import KINDS, SMALL, AlikeToAll, refused
+from tests.helper import KINDS, OWN, SMALL, AlikeToAll, refused
 from wordlines.errors import NoLand, NoName
 from wordlines.lands import Land
 
@@ -95,7 +95,7 @@ class TestLand(unittest.TestCase):
 
     def test_likeness_to_things_of_other_kinds(self):
         land = Land((("a", "b"),))
-        for thing in KINDS + (None, True, 2, land.rows, str(land), repr(land)):
+        for thing in KINDS + OWN[1:] + (None, True, 2, land.rows, str(land), repr(land)):
             self.assertIs(land == thing, False)
             self.assertIs(land != thing, True)
             if not isinstance(thing, AlikeToAll):
@@ -110,7 +110,7 @@ class TestNoLand(unittest.TestCase):
         return refused(self, NoLand, Land, rows).place
 
     def test_what_is_no_tuple_of_tuples(self):
-        for thing in KINDS + (None, True, 0, (), SMALL, [("a",)], ["a"], "a", ("a",), (("a",), ["b"]), (["a"],)):
+        for thing in KINDS + (None, True, 0, (), *OWN, [("a",)], ["a"], "a", ("a",), (("a",), ["b"]), (["a"],)):
             self.assertIs(self.place(thing), None, repr(thing)[:40])
             if not isinstance(thing, tuple):
                 self.assertIs(self.place((("a",), thing)), None, repr(thing)[:40])
@@ -133,7 +133,7 @@ class TestNoLand(unittest.TestCase):
         self.assertIs(self.place((("a", "a", "a", "a", "a", "a", "a"),)), None)
 
     def test_the_first_part_that_is_neither(self):
-        for thing in KINDS + (True, False, 0, (), SMALL):
+        for thing in KINDS + (True, False, 0, (), *OWN):
             self.assertEqual(self.place(((thing,),)), (0, 0))
             self.assertEqual(self.place((("a", None), ("b", thing))), (1, 1))
             self.assertEqual(self.place(((None, None), (thing, thing))), (1, 0))
@@ -159,7 +159,7 @@ class TestNoLand(unittest.TestCase):
 class TestNoName(unittest.TestCase):
     def test_what_is_none_there(self):
         land = Land((("a", None), ("b", "cc")))
-        for thing in KINDS + (None, True, 0, (), land, "c", "ccc", "d", "self", (0, 0), ("a",), ["a"]):
+        for thing in KINDS + OWN + (None, True, 0, (), land, "c", "ccc", "d", "self", (0, 0), ("a",), ["a"]):
             for call in (land.spot, land.neighbours):
                 self.assertIs(refused(self, NoName, call, thing).name, thing)
 

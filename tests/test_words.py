@@ -2,7 +2,7 @@ import itertools
 import random
 import unittest
 
-from tests.helper import KINDS, SMALL, refused
+from tests.helper import KINDS, OWN, refused
 from wordlines.errors import NoChanges, NoWord
 from wordlines.words import are_one, is_word, meaning, row_between
 
@@ -51,7 +51,7 @@ class TestIsWord(unittest.TestCase):
             self.assertIs(is_word(thing), True, thing)
 
     def test_things_of_other_kinds_are_none(self):
-        for thing in KINDS + (None, True, False, 0, 1, (), SMALL, "abcdefghi", "a" * 20000, "`", "{", "aZ", "A"):
+        for thing in KINDS + (None, True, False, 0, 1, (), *OWN, "abcdefghi", "a" * 20000, "`", "{", "aZ", "A"):
             self.assertIs(is_word(thing), False, repr(thing)[:40])
 
     def test_each_sign_but_small_letters_is_refused_in_each_place(self):
@@ -198,7 +198,7 @@ class TestRows(unittest.TestCase):
 
 class TestRefusals(unittest.TestCase):
     def test_what_is_no_word(self):
-        for thing in KINDS + (None, True, 0, SMALL):
+        for thing in KINDS + (None, True, 0, *OWN):
             for call in (are_one, row_between):
                 self.assertIs(refused(self, NoWord, call, thing, "a").word, thing)
                 self.assertIs(refused(self, NoWord, call, "a", thing).word, thing)
@@ -223,7 +223,7 @@ class TestRefusals(unittest.TestCase):
         return place
 
     def test_what_is_no_tuple_of_at_most_twelve(self):
-        for thing in KINDS + (True, False, 0, SMALL, [("a", "b", "any")], {("a", "b", "any"): 1}):
+        for thing in KINDS + (True, False, 0, *OWN, [("a", "b", "any")], {("a", "b", "any"): 1}):
             if not isinstance(thing, tuple):
                 self.assertIs(self.refused_changes(thing), None)
         self.assertIs(self.refused_changes(TWELVE + (("x", "y", "any"),)), None)
