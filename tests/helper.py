@@ -37,6 +37,35 @@ KINDS = (
 )
 
 
+def gathering_of(*rows, things=("cow",)):
+    """A Gathering of a land drawn in rows: `-` a lake, `?` not asked, else the words of a village with `+` between.
+
+    A village is named by the letters of its row and its column; the words are told for each of the things.
+    """
+    drawn = [row.split() for row in rows]
+    names = [[None if part == "-" else "abcdef"[at] + "abcdef"[column] for column, part in enumerate(row)]
+             for at, row in enumerate(drawn)]
+    gathering = Gathering(Land(tuple(tuple(row) for row in names)))
+    for row, parts in zip(names, drawn):
+        for name, part in zip(row, parts):
+            for number, word in enumerate(part.split("+") if part not in "-?" else ()):
+                for thing in things:
+                    gathering.put(name, thing, word, "t" + "abcdefgh"[number], 30)
+    return gathering
+
+
+def drawn_map(*rows, changes=None):
+    """The map of a land drawn as for gathering_of."""
+    return WordMap(gathering_of(*rows), "cow", changes)
+
+
+def some_rows(chance, parts, most=6):
+    """The rows of a drawn land by chance, with at least one village."""
+    columns = chance.randint(1, most)
+    rows = [" ".join(chance.choice(parts) for _ in range(columns)) for _ in range(chance.randint(1, most))]
+    return rows if any(part != "-" for row in rows for part in row.split()) else some_rows(chance, parts, most)
+
+
 def refusals():
     """All refusals by name, the bases left out."""
     named = {name: thing for name, thing in vars(errors).items() if isinstance(thing, type)}

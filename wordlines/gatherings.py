@@ -2,7 +2,7 @@
 
 from wordlines.errors import Full, NoAge, NoBack, NoGathering, NoLand, NoSure, NoTelling, Told
 from wordlines.lands import Land
-from wordlines.words import check_word, is_word
+from wordlines.words import check_word, is_number_from, is_word
 
 MOST_TELLINGS = 200
 OLDEST = 120
@@ -12,7 +12,7 @@ DOUBT = "?"
 
 def check_age(age):
     """Refuse what is no whole number from 0 to 120."""
-    if isinstance(age, bool) or not isinstance(age, int) or not 0 <= age <= OLDEST:
+    if not is_number_from(age, 0, OLDEST):
         raise NoAge(age)
 
 

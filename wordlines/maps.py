@@ -86,12 +86,16 @@ class WordMap:
         return f"WordMap({self.thing})"
 
 
+def check_map(thing, place=0):
+    """Refuse what is no map; place is the number of the argument."""
+    if not isinstance(thing, WordMap):
+        raise NoMap(place)
+
+
 def differences(one, other):
     """The villages that don't have the same words on two maps, rising."""
-    if not isinstance(one, WordMap):
-        raise NoMap(0)
-    if not isinstance(other, WordMap):
-        raise NoMap(1)
+    check_map(one, 0)
+    check_map(other, 1)
     if one.land != other.land:
         raise NoMap(None)
     return tuple([name for name in one.land.names() if one.said[name] != other.said[name]])

@@ -8,6 +8,11 @@ LONGEST_WORD = 8
 MOST_CHANGES = 12
 
 
+def is_number_from(thing, least, most):
+    """Whether a thing of any kind is a whole number from the least to the most."""
+    return isinstance(thing, int) and not isinstance(thing, bool) and least <= thing <= most
+
+
 def is_word(thing):
     """Whether a thing of any kind is a text of one to eight small letters."""
     if not isinstance(thing, str) or not 1 <= len(thing) <= LONGEST_WORD:
