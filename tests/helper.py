@@ -1,5 +1,7 @@
 """What several tests share: things of many kinds, and how a refusal is looked at."""
 
+import itertools
+
 from wordlines import errors
 from wordlines.gatherings import Gathering
 from wordlines.lands import Land
@@ -78,3 +80,19 @@ def refused(test, kind, call, *args, **named):
         call(*args, **named)
     test.assertIs(type(caught.exception), kind)
     return caught.exception
+
+
+def line_length(wordmap, word, filling):
+    """At how many borders one side has the word, told or given by the filling, and the other hasn't."""
+    has = set(wordmap.have(word)) | set(filling)
+    return len([border for border in wordmap.land.borders() if len(has & set(border)) == 1])
+
+
+def thin_fillings(wordmap, word):
+    """All thin fillings, rising, found by going through all fillings; for small lands."""
+    by_length = {}
+    unasked = [name for name in wordmap.land.names() if name not in wordmap.asked()]
+    for many in range(len(unasked) + 1):
+        for filling in itertools.combinations(unasked, many):
+            by_length.setdefault(line_length(wordmap, word, filling), []).append(filling)
+    return tuple(sorted(by_length[min(by_length)]))

@@ -4,6 +4,9 @@ import unittest
 
 from tests.helper import KINDS, OWN, drawn_map, refused, some_rows
 from wordlines.errors import NoMap, NoRings, NoWord
+from wordlines.gatherings import Gathering
+from wordlines.lands import Land
+from wordlines.maps import WordMap
 from wordlines.rings import area, places_in, rings
 
 CHANGES = (("u", "o", "last"), ("k", "g", "first"))
@@ -79,7 +82,8 @@ class TestRings(unittest.TestCase):
             told = rings(drawn_map("ku ku ku", f"ku {middle} ku", "ku ku ku"), "ku")
             self.assertEqual(told, (ABOUT_NINE, HOLE))
             self.assertEqual([area(ring) for ring in told], [9, -1])
-        self.assertEqual(rings(drawn_map("ku ku ku", "ku mu ku", "ku ku ku"), "mu"), (((1, 1), (2, 1), (2, 2), (1, 2)),))
+        told = rings(drawn_map("ku ku ku", "ku mu ku", "ku ku ku"), "mu")
+        self.assertEqual(told, (((1, 1), (2, 1), (2, 2), (1, 2)),))
 
     def test_areas_that_meet_at_a_corner_are_apart(self):
         told = rings(drawn_map("ku mu", "mu ku"), "ku")
@@ -117,6 +121,12 @@ class TestRings(unittest.TestCase):
         wordmap = drawn_map("ku go", changes=CHANGES)
         self.assertEqual([area(ring) for ring in rings(wordmap, "ko")], [2])
         self.assertEqual(rings(drawn_map("ku go"), "ko"), ())
+
+    def test_rising_however_the_names_lie(self):
+        gathering = Gathering(Land((("zz", "mm"), ("bb", "aa"))))
+        gathering.put("zz", "cow", "ku", "ann", 30)
+        gathering.put("aa", "cow", "ku", "ann", 30)
+        self.assertEqual(rings(WordMap(gathering, "cow"), "ku"), (SQUARE, ((1, 1), (2, 1), (2, 2), (1, 2))))
 
     def test_many_maps(self):
         chance = random.Random(8)
