@@ -3,17 +3,17 @@
 from wordlines.maps import check_map
 
 
-def both_asked(wordmap, border):
-    """Whether both neighbours at a border were asked."""
-    name, other = border
+def both_asked(wordmap, pair):
+    """Whether both of two villages were asked."""
+    name, other = pair
     return len(wordmap.said[name]) > 0 and len(wordmap.said[other]) > 0
 
 
-def do_part(wordmap, border):
-    """Whether both neighbours at a border were asked and have no word in common."""
-    name, other = border
+def do_part(wordmap, pair):
+    """Whether both of two villages were asked and have no word in common."""
+    name, other = pair
     common = [word for word in wordmap.said[name] if word in wordmap.said[other]]
-    return both_asked(wordmap, border) and len(common) == 0
+    return both_asked(wordmap, pair) and len(common) == 0
 
 
 def parted(wordmap):
