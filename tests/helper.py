@@ -96,3 +96,29 @@ def thin_fillings(wordmap, word):
         for filling in itertools.combinations(unasked, many):
             by_length.setdefault(line_length(wordmap, word, filling), []).append(filling)
     return tuple(sorted(by_length[min(by_length)]))
+
+
+def spoilt(thing, other):
+    """All that comes of a thing when one part of it, at any depth, or the whole is put out for another."""
+    yield other
+    for at, part in enumerate(thing) if isinstance(thing, tuple) else ():
+        for made in spoilt(part, other):
+            yield thing[:at] + (made,) + thing[at + 1:]
+
+
+def with_lists(thing):
+    """All that comes of a thing when one tuple in it, at any depth, is put out for a list of the same parts."""
+    if isinstance(thing, tuple):
+        yield list(thing)
+        for at, part in enumerate(thing):
+            for made in with_lists(part):
+                yield thing[:at] + (made,) + thing[at + 1:]
+
+
+def with_truths(thing):
+    """All that comes of a thing when one 0 or 1 in it, at any depth, is put out for False or True."""
+    if type(thing) is int and thing in (0, 1):
+        yield bool(thing)
+    for at, part in enumerate(thing) if isinstance(thing, tuple) else ():
+        for made in with_truths(part):
+            yield thing[:at] + (made,) + thing[at + 1:]

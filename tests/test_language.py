@@ -165,7 +165,8 @@ class TestLanguage(unittest.TestCase):
                 self.assertIsInstance(
                     node, (ast.Expr, ast.ImportFrom, ast.FunctionDef, ast.ClassDef, ast.Assign), name)
                 if isinstance(node, ast.Assign):
-                    ast.literal_eval(node.value)
+                    self.look_at_value(node.value, {part.name for part in tree.body if isinstance(part, ast.FunctionDef)
+                                                    and part.lineno < node.lineno}, name)
                     bound += [target.id for target in node.targets]
                 elif isinstance(node, ast.ImportFrom):
                     bound += [imported.name for imported in node.names]
@@ -174,6 +175,28 @@ class TestLanguage(unittest.TestCase):
                 else:
                     self.assertIsInstance(node.value, ast.Constant, name)
             self.assertEqual(len(bound), len(set(bound)), name)
+
+    def look_at_value(self, value, functions, name):
+        """A value is written out, or it is a table of functions that are defined above it."""
+        if isinstance(value, ast.Dict) and all(isinstance(part, ast.Name) for part in value.values):
+            for key, part in zip(value.keys, value.values):
+                ast.literal_eval(key)
+                self.assertIn(part.id, functions, name)
+        else:
+            ast.literal_eval(value)
+
+    def test_the_checker_imports_words_and_lands_alone(self):
+        modules = {node.module for node in nodes(self.trees["checker.py"], ast.ImportFrom)}
+        self.assertEqual(modules, {"wordlines.words", "wordlines.lands"})
+
+    def test_no_two_files_import_from_each_other(self):
+        needs = {name[:-3]: {node.module.split(".")[1] for node in nodes(tree, ast.ImportFrom)}
+                 for name, tree in self.trees.items()}
+        while needs:
+            free = [name for name in needs if not needs[name] & set(needs)]
+            self.assertTrue(free, f"in a circle: {sorted(needs)}")
+            for name in free:
+                del needs[name]
 
 
 if __name__ == "__main__":

@@ -7,6 +7,8 @@ import unittest
 from wordlines.ages import age_cut
 from wordlines.asking import asks_needed, fillings, plan
 from wordlines.bundles import bundles, counts
+from wordlines.checker import holds
+from wordlines.desk import Desk
 from wordlines.errors import NoBack, TooMany
 from wordlines.gatherings import Gathering
 from wordlines.gathertexts import read_gathering, show_gathering
@@ -17,8 +19,10 @@ from wordlines.landtexts import read_land
 from wordlines.lines import parted, parted_by
 from wordlines.maps import WordMap, differences
 from wordlines.near import apart, farthest, nearest
+from wordlines.papers import paper_fate, paper_plan, paper_thin, paper_words
 from wordlines.rings import area, places_in, rings
 from wordlines.thin import fate, possible, thin
+from wordlines.words import are_one, meaning, row_between
 
 ROWS = (("aa", "bb", "cc"), ("dd", None, "ee"), ("ff", "gg", "hh"))
 CHANGES = (("u", "o", "last"), ("k", "g", "first"))
@@ -51,7 +55,9 @@ def map_answers(wordmap):
         told["rings", word] = (about, places_in(about), [area(ring) for ring in about])
         told["thin", word] = thin(wordmap, word)
         told["fates", word] = [fate(wordmap, word, name) for name in wordmap.land.names()]
-        for call in (fillings, plan, asks_needed):
+        told["paper_fates", word] = [paper_fate(wordmap, word, name) for name in wordmap.land.names()
+                                     if name not in wordmap.asked()]
+        for call in (fillings, plan, asks_needed, paper_plan, paper_thin):
             told[call.__name__, word] = or_refusal(call, wordmap, word)
     return told
 
@@ -261,6 +267,56 @@ class TestReadBack(unittest.TestCase):
         read = read_land(str(land))
         self.assertEqual(read, land)
         self.assertEqual((read.names(), read.borders(), read.rows), (land.names(), land.borders(), land.rows))
+
+
+class TestPapers(unittest.TestCase):
+    def test_the_checker_takes_all_that_the_house_tells(self):
+        chance = random.Random(41)
+        for _ in range(6):
+            gathering = some_gathering(chance, 20)
+            for thing in THINGS:
+                told = map_answers(WordMap(gathering, thing, CHANGES))
+                papers = [told["paper_thin", word] for word in WORDS]
+                papers += [paper for word in WORDS for paper in told["paper_fates", word]]
+                papers += [told["paper_plan", word] for word in WORDS if told["paper_plan", word][0] != "TooMany"]
+                for claim, paper in papers:
+                    self.assertIs(holds(claim, paper), True)
+                    self.assertIs(holds(claim, paper), True)
+
+    def test_what_is_told_of_words_goes_together(self):
+        words = ("ku", "go", "mu", "xu", "kuu", "u", "o", "kek", "kik")
+        for word, other, changes in itertools.product(words, words, (None, (), CHANGES, CHANGES + (("e", "i", "any"),))):
+            one = are_one(word, other, changes)
+            claim, paper = paper_words(word, other, changes)
+            self.assertEqual(one, meaning(word, changes) == meaning(other, changes))
+            self.assertEqual(one, row_between(word, other, changes) is not None)
+            self.assertEqual(claim[0], "one" if one else "unlike")
+            self.assertIs(holds(claim, paper), True)
+            # What is told of the one is not taken of its opposite.
+            self.assertIs(holds(("unlike" if one else "one", *claim[1:]), paper), False)
+
+
+class TestDesks(unittest.TestCase):
+    ROWS = (
+        "map cow", "words aa cow", "parted cow", "line cow ku", "rings cow ku", "thin cow ku", "fate cow ku aa",
+        "habit cow ku mu", "apart aa bb", "near aa", "paper cow ku", "one ku go",
+    )
+
+    def test_asked_again_in_another_turn_and_behind_rows_at_another_desk(self):
+        chance = random.Random(42)
+        land = Land(ROWS)
+        desk, other = Desk(land), Desk(land)
+        for village, thing, word, teller, age, gatherer, sure in some_gathering(chance).tellings():
+            desk.say(f"{'put' if sure else 'doubt'} {village} {thing} {word} {teller} {age} {gatherer}")
+        desk.say("change k g first")
+        first = {row: desk.say(row) for row in self.ROWS}
+        for number in range(12):
+            other.say(f"put aa cow mu t{'abcdefghijkl'[number]} 30 self")
+            other.say(f"change u {'abcdefghijkl'[number]} any")
+            for row in chance.sample(self.ROWS, len(self.ROWS)):
+                self.assertEqual(desk.say(row), first[row])
+        other.say("back")
+        self.assertEqual({row: desk.say(row) for row in self.ROWS}, first)
 
 
 class TestJoinedInAnyTurn(unittest.TestCase):

@@ -2,7 +2,7 @@
 
 from wordlines.errors import TooMany
 from wordlines.maps import check_map
-from wordlines.thin import LaidWays
+from wordlines.thin import laid_ways
 
 MOST_UNSURE = 6
 
@@ -10,7 +10,7 @@ MOST_UNSURE = 6
 def fillings(wordmap, word):
     """All thin fillings, rising."""
     check_map(wordmap)
-    laid = LaidWays(wordmap, word)
+    laid = laid_ways(wordmap, word)
     least = laid.least()
     unsure = [name for name in laid.greatest() if name not in least]
     if len(unsure) > MOST_UNSURE:

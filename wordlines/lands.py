@@ -18,18 +18,38 @@ def are_rows(thing):
     return True
 
 
-def checked_spots(rows):
-    """The place (ROW, COLUMN) of each name in the rows, or a refusal."""
-    if not are_rows(rows):
-        raise NoLand(None)
-    spots = {}
+def wrong_spot(rows):
+    """The place (ROW, COLUMN) of the first part that is no lake and no name, or a name told ahead; None without one."""
+    names = []
     for at, row in enumerate(rows):
         for column, part in enumerate(row):
             if part is None:
                 continue
-            if not is_word(part) or part in spots:
-                raise NoLand((at, column))
-            spots[part] = (at, column)
+            if not is_word(part) or part in names:
+                return (at, column)
+            names.append(part)
+    return None
+
+
+def spots_in(rows):
+    """The place (ROW, COLUMN) of each name in the rows."""
+    return {part: (at, column) for at, row in enumerate(rows) for column, part in enumerate(row) if part is not None}
+
+
+def are_land_rows(thing):
+    """Whether a thing of any kind is the rows of a Land."""
+    return are_rows(thing) and wrong_spot(thing) is None and len(spots_in(thing)) > 0
+
+
+def checked_spots(rows):
+    """The place (ROW, COLUMN) of each name in the rows, or a refusal."""
+    if not are_rows(rows):
+        raise NoLand(None)
+    # Parts are looked at first: a thing of another kind may not be fit for a key.
+    wrong = wrong_spot(rows)
+    if wrong is not None:
+        raise NoLand(wrong)
+    spots = spots_in(rows)
     if not spots:
         raise NoLand(None)
     return spots

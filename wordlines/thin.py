@@ -39,13 +39,11 @@ class LaidWays:
     short: the line about all villages that one more way could come to, which finds no goal where no more can be laid.
     """
 
-    def __init__(self, wordmap, word):
-        land = wordmap.land
-        asked = wordmap.asked()
+    def __init__(self, land, having, lacking):
         self.beside = {name: land.neighbours(name) for name in land.names()}
-        self.having = wordmap.have(word)
-        self.lacking = tuple([name for name in asked if name not in self.having])
-        self.unasked = tuple([name for name in land.names() if name not in asked])
+        self.having = having
+        self.lacking = lacking
+        self.unasked = tuple([name for name in land.names() if name not in having and name not in lacking])
         # The steps (NAME, OTHER) that the ways take; of a border at most one of its two steps.
         self.taken = {}
         while self.lay_one_more():
@@ -113,10 +111,17 @@ class LaidWays:
         return MAY if name in self.greatest() else NOT
 
 
+def laid_ways(wordmap, word):
+    """The ways on a map, for a word."""
+    having = wordmap.have(word)
+    lacking = tuple([name for name in wordmap.asked() if name not in having])
+    return LaidWays(wordmap.land, having, lacking)
+
+
 def thin(wordmap, word):
     """(HOW, WAYS, LEAST, GREATEST): the least length, as many ways, and the least and the greatest thin filling."""
     check_map(wordmap)
-    laid = LaidWays(wordmap, word)
+    laid = laid_ways(wordmap, word)
     ways = laid.all_ways()
     return len(ways), ways, laid.least(), laid.greatest()
 
@@ -126,11 +131,11 @@ def fate(wordmap, word, village):
     check_map(wordmap)
     check_word(word)
     wordmap.land.check_name(village)
-    return LaidWays(wordmap, word).fate_of(village)
+    return laid_ways(wordmap, word).fate_of(village)
 
 
 def possible(wordmap, village):
     """The words of a map that a village has or may have, rising."""
     check_map(wordmap)
     wordmap.land.check_name(village)
-    return tuple([word for word in wordmap.all_words() if LaidWays(wordmap, word).fate_of(village) != NOT])
+    return tuple([word for word in wordmap.all_words() if laid_ways(wordmap, word).fate_of(village) != NOT])

@@ -8,9 +8,14 @@ LONGEST_WORD = 8
 MOST_CHANGES = 12
 
 
+def is_whole(thing):
+    """Whether a thing of any kind is a whole number."""
+    return isinstance(thing, int) and not isinstance(thing, bool)
+
+
 def is_number_from(thing, least, most):
     """Whether a thing of any kind is a whole number from the least to the most."""
-    return isinstance(thing, int) and not isinstance(thing, bool) and least <= thing <= most
+    return is_whole(thing) and least <= thing <= most
 
 
 def is_word(thing):
@@ -41,11 +46,21 @@ def is_change(thing):
     return isinstance(where, str) and where in WHERES
 
 
+def is_tuple_up_to(thing, most):
+    """Whether a thing of any kind is a tuple of at most so many parts."""
+    return isinstance(thing, tuple) and len(thing) <= most
+
+
+def are_changes(thing):
+    """Whether a thing of any kind is a tuple of at most twelve changes."""
+    return is_tuple_up_to(thing, MOST_CHANGES) and all([is_change(part) for part in thing])
+
+
 def checked_changes(changes):
     """The tuple of changes that is meant, or a refusal."""
     if changes is None:
         return ()
-    if not isinstance(changes, tuple) or len(changes) > MOST_CHANGES:
+    if not is_tuple_up_to(changes, MOST_CHANGES):
         raise NoChanges(None)
     for place, change in enumerate(changes):
         if not is_change(change):
@@ -123,12 +138,13 @@ def are_one(word, other, changes=None):
     return row_between(word, other, changes) is not None
 
 
+def letters_at(word, place, changes):
+    """The letters that changes lead to from the one of a word at this place, itself among them, rising."""
+    return sorted(list(steps_toward(word[place], turned_letters(changes, place, len(word)))))
+
+
 def meaning(word, changes=None):
     """Of all words that are one with this one the least."""
     check_word(word)
     known = checked_changes(changes)
-    least = []
-    for place, letter in enumerate(word):
-        alike = steps_toward(letter, turned_letters(known, place, len(word)))
-        least.append(min(list(alike)))
-    return "".join(least)
+    return "".join([letters_at(word, place, known)[0] for place in range(len(word))])
